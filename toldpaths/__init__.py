@@ -1,0 +1,1 @@
+"""Toldpaths: what kept path answers tell."""
