@@ -4,7 +4,7 @@ MANNERS = ("any", "matched", "turned")
 
 SMALL = "abcdefghijklmnopqrstuvwxyz"
 
-CAPITAL = "ABCDEFGHIJKLMNOPQRSTUVWXYZ"
+LETTERS = "abcdefghijklmnopqrstuvwxyzABCDEFGHIJKLMNOPQRSTUVWXYZ"
 
 DIGITS = "0123456789"
 

@@ -1,9 +1,7 @@
 """Paths: strings of steps, with kinds at their places."""
 
-from toldpaths.checks import CAPITAL, DIGITS, SMALL, is_below, is_manner, is_rising
+from toldpaths.checks import DIGITS, LETTERS, SMALL, is_below, is_manner, is_rising
 from toldpaths.errors import BadManner, BadPath, BadPlace
-
-LETTERS = SMALL + CAPITAL
 
 
 def is_path(manner, thing):
