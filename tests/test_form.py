@@ -1,6 +1,7 @@
 """The package's form: what stands where, and the sizes of files and functions."""
 
 import ast
+import builtins
 import pathlib
 import unittest
 
@@ -10,12 +11,29 @@ PACKAGE = pathlib.Path(__file__).resolve().parent.parent / "toldpaths"
 FUNCTIONS = {
     "paths.py": {"is_path": ["manner", "thing"], "steps": ["path"], "marks": ["path"], "piece": ["path", "i", "j"],
                  "joined": ["one", "other"], "back": ["path"], "reduced": ["path"], "tree": ["path"]},
+    "plans.py": {"is_plan": ["book", "path", "thing"], "carried": ["book", "path", "plan", "answers", "kinds"]},
+    "tells.py": {"is_told": ["book", "path"], "verdict": ["book", "path"],
+                 "is_witness": ["book", "path", "one", "other"], "is_joined": ["book", "path"]},
 }
 METHODS = {
     "stores.py": {"Store": {"__init__": ["self", "manner", "many", "links", "kinds"], "links": ["self"],
                             "kinds": ["self"], "__eq__": ["self", "other"], "answer": ["self", "path"],
                             "text": ["self"], "of_text": ["text"]}},
+    "books.py": {"Book": {"__init__": ["self", "manner", "kept"], "kept": ["self"], "__len__": ["self"],
+                          "__iter__": ["self"], "__eq__": ["self", "other"], "further": ["self", "paths"],
+                          "without": ["self", "indices"]}},
 }
+
+# What the rules of the language let the package use of Python's own.
+LIBRARY = {"heapq": {"heappush", "heappop"}}
+BUILTINS = set("""len range enumerate zip min max sum abs sorted reversed int str bool list tuple dict set isinstance
+    ord repr any all divmod iter staticmethod ValueError""".split())
+OWN_METHODS_OF_VALUES = set("""append clear copy count endswith extend find get index insert isalnum isalpha isdigit
+    islower isspace isupper items join keys ljust lower lstrip partition pop remove replace reverse rfind rjust
+    rpartition rsplit rstrip setdefault split splitlines startswith strip update upper values zfill bit_length
+    swapcase __init__""".split())
+BARRED = (ast.GeneratorExp, ast.Global, ast.Nonlocal, ast.Try, ast.With, ast.Yield, ast.YieldFrom, ast.Await,
+          ast.AsyncFunctionDef, ast.AnnAssign, ast.NamedExpr, ast.Match, ast.Assert, ast.Div)
 
 
 def parsed(name):
@@ -54,13 +72,62 @@ class Form(unittest.TestCase):
                 if isinstance(node, ast.FunctionDef):
                     self.assertLessEqual(node.end_lineno - node.lineno + 1, 40, node.name)
 
-    def test_imports_are_own(self):
+    def test_imports(self):
         for path in PACKAGE.glob("*.py"):
             for node in ast.walk(parsed(path.name)):
                 self.assertNotIsInstance(node, ast.Import)
                 if isinstance(node, ast.ImportFrom):
                     self.assertEqual(node.level, 0)
+                    names = {alias.name for alias in node.names}
+                    if node.module in LIBRARY:
+                        self.assertLessEqual(names, LIBRARY[node.module])
+                        continue
                     self.assertTrue(node.module.startswith("toldpaths."), node.module)
+                    behind = parsed(node.module.split(".")[1] + ".py").body
+                    defined = {part.name for part in behind if isinstance(part, (ast.FunctionDef, ast.ClassDef))}
+                    defined |= {part.targets[0].id for part in behind if isinstance(part, ast.Assign)}
+                    self.assertLessEqual(names, defined, path.name)
+
+    def test_no_files_import_from_each_other(self):
+        ahead = {path.name: {node.module.split(".")[1] + ".py" for node in ast.walk(parsed(path.name))
+                             if isinstance(node, ast.ImportFrom) and node.module.startswith("toldpaths.")}
+                 for path in PACKAGE.glob("*.py")}
+        while ahead:
+            free = [name for name, needed in ahead.items() if not needed & set(ahead)]
+            self.assertNotEqual(free, [], ahead)
+            for name in free:
+                del ahead[name]
+
+    def test_names(self):
+        for path in PACKAGE.glob("*.py"):
+            whole = parsed(path.name)
+            bound = {alias.name for node in ast.walk(whole) if isinstance(node, ast.ImportFrom) for alias in node.names}
+            bound |= {node.name for node in whole.body if isinstance(node, ast.ClassDef)}
+            local = [node.arg for node in ast.walk(whole) if isinstance(node, ast.arg)]
+            local += [node.id for node in ast.walk(whole) if isinstance(node, ast.Name) and not isinstance(node.ctx, ast.Load)]
+            functions = [node.name for node in whole.body if isinstance(node, ast.FunctionDef)]
+            for name in local:
+                self.assertNotIn(name, bound, path.name)
+            for name in local + functions:
+                self.assertFalse(hasattr(builtins, name), f"{path.name}: {name}")
+
+    def test_what_is_used(self):
+        methods = {part.name for path in PACKAGE.glob("*.py") for node in parsed(path.name).body
+                   if isinstance(node, ast.ClassDef) for part in node.body if isinstance(part, ast.FunctionDef)}
+        for path in PACKAGE.glob("*.py"):
+            for node in ast.walk(parsed(path.name)):
+                told = f"{path.name}:{getattr(node, 'lineno', 0)}"
+                self.assertNotIsInstance(node, BARRED, told)
+                if isinstance(node, ast.Name) and hasattr(builtins, node.id):
+                    self.assertIn(node.id, BUILTINS, told)
+                if isinstance(node, ast.Call) and isinstance(node.func, ast.Attribute):
+                    self.assertIn(node.func.attr, OWN_METHODS_OF_VALUES | methods, told)
+                if isinstance(node, ast.Compare):
+                    for operator, other in zip(node.ops, node.comparators):
+                        if isinstance(operator, (ast.Is, ast.IsNot)):
+                            self.assertIsInstance(other, ast.Constant, told)
+                if isinstance(node, ast.FunctionDef):
+                    self.assertLessEqual({ast.unparse(part) for part in node.decorator_list}, {"staticmethod"}, told)
 
 
 if __name__ == "__main__":

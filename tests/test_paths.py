@@ -3,6 +3,7 @@
 import itertools
 import unittest
 
+from helping import raised
 from toldpaths.errors import BadManner, BadPath, BadPlace
 from toldpaths.paths import back, is_path, joined, marks, piece, reduced, steps, tree
 from toldpaths.stores import Store
@@ -16,16 +17,6 @@ MARKED = ["1a", "a1", "1ab23c", "0a", "a9", "0123456789a", "a0123456789", "1a1b1
 NO_PATHS = ["", "1", "12", "11a", "21a", "a11", "a21", "a1b32", "a1b33c", "1A", "A1", "a1B", "A1b",
             "aB1", "1aB", "a b", " a", "a ", "a\n", "\u00e4", "a\u00e4", "\u00c4", "\u00e9b", "\u0661a",
             "a\u00b2", "a\uff11", "\uff41", "a-", "a_b", "-1a", "+", "\u0131", "\u212a", "a\ud800", "\x00a"]
-
-
-def raised(error, call, *told, **named):
-    """Return the error of just this class that the call raises."""
-    try:
-        found = call(*told, **named)
-    except error as e:
-        assert type(e) is error, e
-        return e
-    raise AssertionError(f"returned {found!r}")
 
 
 class IsPath(unittest.TestCase):

@@ -6,21 +6,10 @@ import random
 import time
 import unittest
 
+from helping import MANNERS, raised, some_store
 from toldpaths.errors import BadKind, BadLink, BadManner, BadMany, BadPath, BadText
 from toldpaths.paths import back, marks, steps
 from toldpaths.stores import Store
-
-MANNERS = ("any", "matched", "turned")
-
-
-def raised(error, call, *told, **named):
-    """Return the error of just this class that the call raises."""
-    try:
-        found = call(*told, **named)
-    except error as e:
-        assert type(e) is error, e
-        return e
-    raise AssertionError(f"returned {found!r}")
 
 
 def ways(store, path):
@@ -38,26 +27,6 @@ def ways(store, path):
         else:
             found.add((row[0], row[-1]))
     return sorted(found)
-
-
-def some_links(dice, manner, many, letters):
-    """Make links as the manner wants them."""
-    links = {}
-    for letter in letters:
-        firsts, seconds = list(range(many)), list(range(many))
-        dice.shuffle(firsts)
-        dice.shuffle(seconds)
-        if manner == "any":
-            pairs = [(x, y) for x in firsts for y in seconds if dice.random() < 0.4]
-        else:
-            pairs = list(zip(firsts, seconds))
-        links[letter] = pairs[:dice.randrange(many + 1)] if manner == "matched" else pairs
-    return links
-
-
-def some_store(dice, manner, many):
-    kinds = {k: [x for x in range(many) if dice.random() < 0.6] for k in "12"}
-    return Store(manner, many, some_links(dice, manner, many, "ab"), kinds if manner == "any" else None)
 
 
 class Made(unittest.TestCase):
