@@ -14,6 +14,10 @@ FUNCTIONS = {
     "plans.py": {"is_plan": ["book", "path", "thing"], "carried": ["book", "path", "plan", "answers", "kinds"]},
     "tells.py": {"is_told": ["book", "path"], "verdict": ["book", "path"],
                  "is_witness": ["book", "path", "one", "other"], "is_joined": ["book", "path"]},
+    "machines.py": {"machine": ["book"]},
+    "choices.py": {"tells_all": ["book", "other"], "needless": ["book"], "least": ["manner", "menu", "wishes"],
+                   "greatest": ["manner", "menu", "secrets"], "touched": ["book", "indices", "path"],
+                   "asks": ["book", "path"]},
 }
 METHODS = {
     "stores.py": {"Store": {"__init__": ["self", "manner", "many", "links", "kinds"], "links": ["self"],
@@ -22,6 +26,17 @@ METHODS = {
     "books.py": {"Book": {"__init__": ["self", "manner", "kept"], "kept": ["self"], "__len__": ["self"],
                           "__iter__": ["self"], "__eq__": ["self", "other"], "further": ["self", "paths"],
                           "without": ["self", "indices"]}},
+    "machines.py": {"Machine": {"rows": ["self"], "__len__": ["self"], "__eq__": ["self", "other"],
+                                "has": ["self", "path"], "count": ["self", "n"], "nth": ["self", "n", "i"],
+                                "first_lacking": ["self", "other"], "both": ["self", "other"],
+                                "either": ["self", "other"], "less": ["self", "other"],
+                                "leads": ["self", "pieces"], "ends_along": ["self", "pieces"]}},
+    "desks.py": {"Desk": {"__init__": ["self", "manner"], "keep": ["self", "path"], "tells": ["self", "path"],
+                          "undo": ["self"], "now": ["self"]}},
+    "groups.py": {"Group": {"__init__": ["self", "paths"], "has": ["self", "path"], "rows": ["self"],
+                            "__len__": ["self"], "__eq__": ["self", "other"], "rank": ["self"],
+                            "cosets": ["self", "letters"], "basis": ["self"], "both": ["self", "other"],
+                            "joined": ["self", "other"], "turned_by": ["self", "path"], "power": ["self", "path"]}},
 }
 
 # What the rules of the language let the package use of Python's own.
@@ -101,11 +116,13 @@ class Form(unittest.TestCase):
     def test_names(self):
         for path in PACKAGE.glob("*.py"):
             whole = parsed(path.name)
-            bound = {alias.name for node in ast.walk(whole) if isinstance(node, ast.ImportFrom) for alias in node.names}
-            bound |= {node.name for node in whole.body if isinstance(node, ast.ClassDef)}
+            imported = {alias.name for node in ast.walk(whole) if isinstance(node, ast.ImportFrom) for alias in node.names}
+            bound = imported | {node.name for node in whole.body if isinstance(node, ast.ClassDef)}
             local = [node.arg for node in ast.walk(whole) if isinstance(node, ast.arg)]
             local += [node.id for node in ast.walk(whole) if isinstance(node, ast.Name) and not isinstance(node.ctx, ast.Load)]
             functions = [node.name for node in whole.body if isinstance(node, ast.FunctionDef)]
+            read = {node.id for node in ast.walk(whole) if isinstance(node, ast.Name)}
+            self.assertLessEqual(imported, read, path.name)
             for name in local:
                 self.assertNotIn(name, bound, path.name)
             for name in local + functions:

@@ -100,6 +100,9 @@ class IsPlan(unittest.TestCase):
                 self.assertIs(is_plan(AAA, "aaaa", [(1, "on"), (index, way)]), False)
         for way in ["On", "on ", "", "o", "onback", None, True, 0, 1, ["on"], ("on",), {"on": 1}, b"on"]:
             self.assertIs(is_plan(AAA, "aaaa", [(1, way)]), False)
+            for manner in MANNERS:
+                self.assertIs(is_plan(Book(manner, ["a"]), "a", [(0, "on"), (0, way), (0, "on")]), False)
+                self.assertIs(is_plan(Book(manner, ["a"]), "aa", [(0, "on"), (0, way)]), False)
         for pair in [(1,), (1, "on", 0), [], (), "on", "1on", None, 1, {1: "on"}, {"index": 1, "way": "on"}, "1o"]:
             self.assertIs(is_plan(AAA, "aaaa", [pair]), False)
         self.assertIs(is_plan(AAA, "aaa", [(False, "on")]), False)
@@ -240,6 +243,10 @@ class Carried(unittest.TestCase):
         self.assertEqual(carried(Book("turned", []), "aA", [], []), [])
         big = 10 ** 30
         self.assertEqual(carried(book, "b", [(1, "on")], [[(0, big)], [(big, 5)]]), [(big, 5)])
+        things = [big, 7, 10 ** 6, 0, 99, big + 1, 512, 64, 33]
+        self.assertEqual(carried(book, "ab", [(0, "on"), (1, "on")], [[(5, 5)], [(5, x) for x in things]]),
+                         [(5, x) for x in sorted(things)])
+        self.assertEqual(carried(book, "bB", [], [[(x, 5) for x in things], []]), [(x, x) for x in sorted(things + [5])])
 
     def test_matched_and_turned_backs(self):
         answers = [[(0, 1), (2, 3)], [(4, 1), (4, 3), (5, 5)]]

@@ -4,7 +4,6 @@ from toldpaths.bridges import board_of, covered, hanging
 from toldpaths.paths import marks, steps, tree
 from toldpaths.rooms import rows_of_paths
 from toldpaths.stores import Store
-from toldpaths.words import reduced_word, stepped
 
 
 def open_stores(manner, kept, path):
@@ -115,7 +114,7 @@ def _open_turned(kept, path):
     letters made full. All kept paths lead from room 0 to itself, so that the two rooms 0
     can change places without a change of their answers; but the path leads elsewhere.
     """
-    rows = _rows_with(rows_of_paths(kept), reduced_word(path))
+    rows = _rows_with(rows_of_paths(kept), path)
     many = len(rows)
     straight = list(range(2 * many))
     crossed = list(straight)
@@ -124,11 +123,11 @@ def _open_turned(kept, path):
     return _turned_store(rows, straight), _turned_store(rows, crossed)
 
 
-def _rows_with(rows, word):
-    """Return rows in which a reduced word leads on from room 0, by new rooms where it must."""
+def _rows_with(rows, path):
+    """Return rows in which a path leads on from room 0, by new rooms where it must."""
     longer = [dict(row) for row in rows]
     room = 0
-    for letter in word:
+    for letter in path:
         if letter not in longer[room]:
             longer[room][letter] = len(longer)
             longer.append({letter.swapcase(): room})

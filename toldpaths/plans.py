@@ -46,9 +46,7 @@ def _check_answers(many, answers):
 
 def _is_pair_of_plan(many, thing):
     """Tell whether an object is a pair of the index of a kept path and a way."""
-    if not is_list(thing) or len(thing) != 2 or not is_below(thing[0], many):
-        return False
-    return isinstance(thing[1], str) and thing[1] in ("on", "back")
+    return is_list(thing) and len(thing) == 2 and is_below(thing[0], many) and thing[1] in ("on", "back")
 
 
 def _is_answer(thing):

@@ -44,8 +44,8 @@ class Rooms:
         return numbered(_pruned(rows))
 
     def _moves_from(self, room):
-        """Return the list of the pairs (letter, room behind) of a room, in the order of the letters."""
-        return [(letter, self._found(behind)) for letter, behind in sorted(self._moves[room].items())]
+        """Return the list of the pairs (letter, room behind) of a room."""
+        return [(letter, self._found(behind)) for letter, behind in self._moves[room].items()]
 
     def _found(self, room):
         """Return the room that stands for all rooms which have become one with this one."""
