@@ -18,6 +18,8 @@ FUNCTIONS = {
     "choices.py": {"tells_all": ["book", "other"], "needless": ["book"], "least": ["manner", "menu", "wishes"],
                    "greatest": ["manner", "menu", "secrets"], "touched": ["book", "indices", "path"],
                    "asks": ["book", "path"]},
+    "weights.py": {"worth_carried": ["book", "path", "plan", "reading", "answers", "kinds"],
+                   "worth_open": ["book", "path", "reading"], "is_worth_witness": ["book", "path", "one", "other"]},
 }
 METHODS = {
     "stores.py": {"Store": {"__init__": ["self", "manner", "many", "links", "kinds"], "links": ["self"],
@@ -37,10 +39,18 @@ METHODS = {
                             "__len__": ["self"], "__eq__": ["self", "other"], "rank": ["self"],
                             "cosets": ["self", "letters"], "basis": ["self"], "both": ["self", "other"],
                             "joined": ["self", "other"], "turned_by": ["self", "path"], "power": ["self", "path"]}},
+    "weights.py": {"Weights": {"__init__": ["self", "reading", "many", "links", "kinds"], "links": ["self"],
+                               "kinds": ["self"], "__eq__": ["self", "other"], "answer": ["self", "path"]}},
+    "opened.py": {"Opened": {"__init__": ["self", "manner", "facts"], "facts": ["self"], "things": ["self"],
+                             "is_possible": ["self"], "clash": ["self"], "is_clash": ["self", "thing"],
+                             "sure": ["self", "path"], "can_be": ["self", "path", "x", "y"], "freshest": ["self"]}},
+    "logs.py": {"Log": {"__init__": ["self", "manner"], "keep": ["self", "path"], "change": ["self", "letter"],
+                        "undo": ["self"], "now": ["self"], "kept": ["self"], "tells": ["self", "path", "moment"],
+                        "anew": ["self", "wishes"]}},
 }
 
 # What the rules of the language let the package use of Python's own.
-LIBRARY = {"heapq": {"heappush", "heappop"}}
+LIBRARY = {"heapq": {"heappush", "heappop"}, "math": {"gcd"}}
 BUILTINS = set("""len range enumerate zip min max sum abs sorted reversed int str bool list tuple dict set isinstance
     ord repr any all divmod iter staticmethod ValueError""".split())
 OWN_METHODS_OF_VALUES = set("""append clear copy count endswith extend find get index insert isalnum isalpha isdigit

@@ -25,26 +25,26 @@ def needless(book):
 def least(manner, menu, wishes):
     """Return all least choices from the menu that tell all wishes."""
     book = Book(manner, menu)
-    _check_paths(manner, wishes)
+    check_paths(manner, wishes)
     teller = Teller(manner, book.kept(), wishes)
     found = []
     # As numbers, too, choices come ahead of those that have their paths and more.
     for chosen in range(1 << len(book)):
         if not any([chosen & fewer == fewer for fewer in found]) and teller.all_told(chosen):
             found.append(chosen)
-    return [_indices(chosen) for chosen in found]
+    return [indices_of(chosen) for chosen in found]
 
 
 def greatest(manner, menu, secrets):
     """Return all greatest choices from the menu that tell none of the secrets."""
     book = Book(manner, menu)
-    _check_paths(manner, secrets)
+    check_paths(manner, secrets)
     teller = Teller(manner, book.kept(), secrets)
     found = []
     for chosen in range(_all_of(book), -1, -1):
         if not any([chosen & more == chosen for more in found]) and not teller.some_told(chosen):
             found.append(chosen)
-    return [_indices(chosen) for chosen in found]
+    return [indices_of(chosen) for chosen in found]
 
 
 def touched(book, indices, path):
@@ -63,7 +63,7 @@ def asks(book, path):
     return [asked for at, asked in enumerate(pieces, len(book)) if teller.all_told(_all_of(book) | 1 << at)]
 
 
-def _check_paths(manner, paths):
+def check_paths(manner, paths):
     """Raise an error unless an object is a list of paths for the manner."""
     if not is_list(paths):
         raise BadPath(paths)
@@ -72,14 +72,14 @@ def _check_paths(manner, paths):
             raise BadPath(path)
 
 
+def indices_of(chosen):
+    """Return the rising list of the indices that are the bits of a choice."""
+    return [index for index in range(chosen.bit_length()) if chosen >> index & 1 == 1]
+
+
 def _all_of(book):
     """Return the choice of all paths of a book."""
     return (1 << len(book)) - 1
-
-
-def _indices(chosen):
-    """Return the rising list of the indices that are the bits of a choice."""
-    return [index for index in range(chosen.bit_length()) if chosen >> index & 1 == 1]
 
 
 def _pieces(path):

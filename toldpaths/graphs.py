@@ -8,8 +8,13 @@ def explored(first, follow):
     letters. The states are numbered in the order in which they are first named, letter by
     letter; the moves are a dict from letters to numbers for each state.
     """
-    numbers = {first: 0}
-    states = [first]
+    return explored_from([first], follow)
+
+
+def explored_from(firsts, follow):
+    """Do the same from several unlike states, which are numbered ahead of all others."""
+    numbers = {state: number for number, state in enumerate(firsts)}
+    states = list(firsts)
     moves = []
     while len(moves) < len(states):
         row = {}
@@ -43,3 +48,16 @@ def led(moves, state, word):
             return None
         state = moves[state][letter]
     return state
+
+
+def made_full(moves, letter):
+    """Return for each state the one to which a letter leads, made up where it leads to none.
+
+    The moves are such that a letter leads from a state to another one just if the letter of
+    the other size leads back; what is made up is so, too.
+    """
+    free = [state for state, row in enumerate(moves) if letter.swapcase() not in row]
+    behind = []
+    for row in moves:
+        behind.append(row[letter] if letter in row else free.pop())
+    return behind

@@ -1,6 +1,7 @@
 """Pairs of stores with equal kept answers and unlike answers for a path that is not told."""
 
 from toldpaths.bridges import board_of, covered, hanging
+from toldpaths.graphs import made_full
 from toldpaths.paths import marks, steps, tree
 from toldpaths.rooms import rows_of_paths
 from toldpaths.stores import Store
@@ -141,15 +142,6 @@ def _turned_store(rows, names):
     letters = sorted({letter.lower() for row in rows for letter in row})
     links = {}
     for letter in letters:
-        behind = _full(rows, letter)
+        behind = made_full(rows, letter)
         links[letter] = [(names[x + begin], names[behind[x] + begin]) for begin in (0, many) for x in range(many)]
     return Store("turned", 2 * many, links)
-
-
-def _full(rows, letter):
-    """Return for each room the one to which a letter leads, made up where it leads to none."""
-    free = [room for room, row in enumerate(rows) if letter.upper() not in row]
-    behind = []
-    for row in rows:
-        behind.append(row[letter] if letter in row else free.pop())
-    return behind

@@ -4,6 +4,7 @@ from toldpaths.bridges import board_of, followed
 from toldpaths.checks import DIGITS, is_below, is_list, is_number, is_sign_of
 from toldpaths.errors import BadAnswers, BadKind, BadPath, BadPlan
 from toldpaths.paths import is_path, marks, reduced
+from toldpaths.tables import things_having
 from toldpaths.turnedplans import plan_word
 
 
@@ -11,7 +12,7 @@ def is_plan(book, path, thing):
     """Tell of any object whether it is a plan of the book for the path."""
     if not is_path(book.manner, path):
         raise BadPath(path)
-    if not is_list(thing) or not all([_is_pair_of_plan(len(book), pair) for pair in thing]):
+    if not is_list_of_ways(len(book), thing):
         return False
     if book.manner == "turned":
         return plan_word(book.kept(), thing) == reduced(path)
@@ -22,72 +23,64 @@ def carried(book, path, plan, answers, kinds=None):
     """Return the answer of the path that the plan finds from the kept answers alone."""
     if not is_plan(book, path, plan):
         raise BadPlan(plan)
-    _check_answers(len(book), answers)
-    if book.manner == "any":
-        _check_kinds(kinds)
-    known = _known_things(answers)
-    if book.manner == "any":
-        having = [_things_having(known, mark, kinds) for mark in marks(path)]
-        places = followed(board_of("any", book.kept(), path), plan)
-        ends = _found_by_places(known, [having[place] for place in places], plan, answers)
-    else:
-        ends = _found_in_order(known, plan, answers)
-    return [(x, known[at]) for x in sorted(ends) for at in range(len(known)) if ends[x] >> at & 1 == 1]
+    check_answers(len(book), answers, is_answer)
+    if book.manner != "any":
+        return found_in_order(plan, answers)
+    check_kinds(kinds)
+    known = known_things(answers)
+    places = followed(board_of("any", book.kept(), path), plan)
+    mark_at = marks(path)
+    having = [things_having(known, mark_at[place], {} if kinds is None else kinds) for place in places]
+    return found_by_places(known, having, plan, answers)
 
 
-def _check_answers(many, answers):
-    """Raise an error unless answers is a list of as many lists of pairs of integers from 0 on."""
+def is_list_of_ways(many, thing):
+    """Tell whether an object is a list of pairs of an index below many and a way."""
+    return is_list(thing) and all([_is_index_and_way(many, pair) for pair in thing])
+
+
+def check_answers(many, answers, is_right):
+    """Raise an error unless answers is a list of as many answers that are right.
+
+    is_right(thing) tells of any object whether it can be the answer of a kept path.
+    """
     if not is_list(answers):
         raise BadAnswers(0)
     for index in range(max(many, len(answers))):
-        if index >= many or index >= len(answers) or not _is_answer(answers[index]):
+        if index >= many or index >= len(answers) or not is_right(answers[index]):
             raise BadAnswers(index)
 
 
-def _is_pair_of_plan(many, thing):
-    """Tell whether an object is a pair of the index of a kept path and a way."""
-    return is_list(thing) and len(thing) == 2 and is_below(thing[0], many) and thing[1] in ("on", "back")
-
-
-def _is_answer(thing):
+def is_answer(thing):
     """Tell whether an object is a list of pairs of integers from 0 on."""
-    return is_list(thing) and all([is_list(pair) and len(pair) == 2 and _is_row(pair) for pair in thing])
+    return is_list(thing) and all([is_natural_row(pair) and len(pair) == 2 for pair in thing])
 
 
-def _is_row(thing):
+def is_natural_row(thing):
     """Tell whether an object is a list of integers from 0 on."""
     return is_list(thing) and all([is_number(x) and x >= 0 for x in thing])
 
 
-def _check_kinds(kinds):
+def check_kinds(kinds):
     """Raise an error unless kinds is None or a dict from digits to lists of integers from 0 on."""
     if kinds is None:
         return
     if not isinstance(kinds, dict):
         raise BadKind(kinds)
     for kind in kinds:
-        if not is_sign_of(kind, DIGITS) or not _is_row(kinds[kind]):
+        if not is_sign_of(kind, DIGITS) or not is_natural_row(kinds[kind]):
             raise BadKind(kind)
 
 
-def _known_things(answers):
+def known_things(answers):
     """Return the sorted list of all things that stand in a pair of any of the answers."""
-    return sorted({x for pairs in answers for pair in pairs for x in pair})
+    return sorted({x for pairs in answers for pair in pairs for x in pair[:2]})
 
 
-def _things_having(known, mark, kinds):
-    """Return a dict that has just the known things with all kinds of a mark as its keys."""
-    things = {x: True for x in known}
-    for kind in mark:
-        others = {} if kinds is None else {x: True for x in kinds.get(kind, [])}
-        things = {x: True for x in things if x in others}
-    return things
+def found_by_places(known, having, plan, answers):
+    """Return the sorted list of pairs that a plan for "any" finds.
 
-
-def _found_by_places(known, having, plan, answers):
-    """Return what a plan for "any" finds: for each thing the known things it is joined with, as bits.
-
-    having tells the things that have the kinds of the places to which the plan comes.
+    having tells the known things that have the kinds of the places to which the plan comes.
     """
     ends = {x: 1 << at for at, x in enumerate(known) if x in having[-1]}
     for number in range(len(plan) - 1, -1, -1):
@@ -97,17 +90,28 @@ def _found_by_places(known, having, plan, answers):
         else:
             full = (1 << len(known)) - 1
             ends = _led_backward(answers[index], having[number], having[number + 1], ends, full)
-    return ends
+    return _pairs_of(known, ends)
 
 
-def _found_in_order(known, plan, answers):
-    """Return what the answers one behind the other find, turned about where the way is "back"."""
+def found_in_order(plan, answers):
+    """Return the sorted list of pairs that the answers one behind the other join, turned about where it goes "back"."""
+    known = known_things(answers)
     things = {x: True for x in known}
     ends = {x: 1 << at for at, x in enumerate(known)}
     for index, way in plan[::-1]:
         pairs = answers[index] if way == "on" else [(y, x) for x, y in answers[index]]
         ends = _led_onward(pairs, things, ends)
-    return ends
+    return _pairs_of(known, ends)
+
+
+def _is_index_and_way(many, thing):
+    """Tell whether an object is a pair of an index and a way."""
+    return is_list(thing) and len(thing) == 2 and is_below(thing[0], many) and thing[1] in ("on", "back")
+
+
+def _pairs_of(known, ends):
+    """Return the sorted list of pairs of things whose ends among the known things are told as bits."""
+    return [(x, known[at]) for x in sorted(ends) for at in range(len(known)) if ends[x] >> at & 1 == 1]
 
 
 def _led_onward(pairs, things, ends):

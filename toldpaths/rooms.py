@@ -1,7 +1,7 @@
 """Rooms joined by letters: the graphs of the groups that paths for "turned" make."""
 
 from toldpaths.graphs import explored, led
-from toldpaths.words import reduced_word
+from toldpaths.words import reduced_row
 
 
 class Rooms:
@@ -24,7 +24,7 @@ class Rooms:
         self._lead(behind, letter.swapcase(), room)
 
     def thread(self, room, word, behind):
-        """Let a word of at least one letter lead from a room to another one."""
+        """Let a word, or a list, of at least one letter lead from a room to another one."""
         for letter in word[:-1]:
             between = self.fresh()
             self.link(room, letter, between)
@@ -38,16 +38,11 @@ class Rooms:
             for letter, behind in row.items():
                 self.link(room, letter, names[behind])
 
-    def rows(self):
-        """Return the rows of the group that leads from room 0 to itself."""
-        _, rows = explored(0, lambda room: self._moves_from(room))
-        return numbered(_pruned(rows))
-
-    def _moves_from(self, room):
+    def moves_from(self, room):
         """Return the list of the pairs (letter, room behind) of a room."""
-        return [(letter, self._found(behind)) for letter, behind in self._moves[room].items()]
+        return [(letter, self.found(behind)) for letter, behind in self._moves[room].items()]
 
-    def _found(self, room):
+    def found(self, room):
         """Return the room that stands for all rooms which have become one with this one."""
         while self._same[room] != room:
             # Each room on the way is led further on, so that later ways are short.
@@ -55,9 +50,14 @@ class Rooms:
             room = self._same[room]
         return room
 
+    def rows(self):
+        """Return the rows of the group that leads from room 0 to itself."""
+        _, rows = explored(0, lambda room: self.moves_from(room))
+        return numbered(_pruned(rows))
+
     def _lead(self, room, letter, behind):
         """Let a letter lead from a room to another one."""
-        moves = self._moves[self._found(room)]
+        moves = self._moves[self.found(room)]
         if letter in moves:
             self._unite(moves[letter], behind)
         else:
@@ -69,7 +69,7 @@ class Rooms:
         while pairs != []:
             one, other = pairs.pop()
             # The lesser one is kept, so that room 0 stays room 0.
-            room, gone = sorted([self._found(one), self._found(other)])
+            room, gone = sorted([self.found(one), self.found(other)])
             if room != gone:
                 self._same[gone] = room
                 moves = self._moves[room]
@@ -95,8 +95,8 @@ def rows_of_both(one, other):
 
 
 def is_home(rows, word):
-    """Tell whether the group with these rows has the reduced word of a word."""
-    return led(rows, 0, reduced_word(word)) == 0
+    """Tell whether the group with these rows has the reduced word of a word, or of a list of letters."""
+    return led(rows, 0, reduced_row(word)) == 0
 
 
 def numbered(rows):

@@ -1,9 +1,10 @@
 """Stores: links between things, the answers of paths in them, and their texts."""
 
-from toldpaths.checks import DIGITS, SMALL, has_twice, is_below, is_list, is_manner, is_number
-from toldpaths.checks import is_rising, is_sign_of
-from toldpaths.errors import BadKind, BadLink, BadManner, BadMany, BadPath, BadText
+from toldpaths.checks import DIGITS, SMALL, is_manner, is_rising, is_sign_of
+from toldpaths.errors import BadKind, BadManner, BadPath, BadText
 from toldpaths.paths import is_path, marks, steps
+from toldpaths.tables import check_links, check_many, copied, is_link, is_told_link, joined_along, sorted_links
+from toldpaths.tables import taken_kinds, things_having
 
 
 class Store:
@@ -12,8 +13,7 @@ class Store:
     def __init__(self, manner, many, links, kinds=None):
         if not is_manner(manner):
             raise BadManner(manner)
-        if not is_number(many) or many < 1:
-            raise BadMany(many)
+        check_many(many)
         self.manner = manner
         self.many = many
         self._links = _taken_links(manner, many, links)
@@ -25,24 +25,19 @@ class Store:
 
     def links(self):
         """Return the dict from letters to the sorted lists of the pairs of their links."""
-        return {letter: list(pairs) for letter, pairs in self._links.items()}
+        return copied(self._links)
 
     def kinds(self):
         """Return the dict from digits to the sorted lists of the things of these kinds."""
-        return {kind: list(things) for kind, things in self._kinds.items()}
+        return copied(self._kinds)
 
     def answer(self, path):
         """Return the sorted list of all pairs of things that the path joins."""
         if not is_path(self.manner, path):
             raise BadPath(path)
-        taken = steps(path)
-        kinds = marks(path)
-        # From the path's end on: for each thing, the ends to which the rest of the path
-        # leads from it, as the bits of an integer.
-        ends = {x: 1 << x for x in self._things_with(kinds[-1])}
-        for place in range(len(taken) - 1, -1, -1):
-            ends = _led_on(self._pairs_along(taken[place]), self._things_with(kinds[place]), ends)
-        return [(x, y) for x in sorted(ends) for y in _bits(ends[x])]
+        everything = list(range(self.many))
+        things = [things_having(everything, mark, self._kinds) for mark in marks(path)]
+        return joined_along([self._pairs_along(step) for step in steps(path)], things)
 
     def text(self):
         """Return the store as a text."""
@@ -70,13 +65,6 @@ class Store:
             raise BadText(len(lines))
         return Store(head[0], head[1], links, kinds)
 
-    def _things_with(self, mark):
-        """Return a dict that has just the things with all these kinds as its keys."""
-        things = {x: True for x in range(self.many)}
-        for kind in mark:
-            things = {x: True for x in self._kinds.get(kind, []) if x in things}
-        return things
-
     def _pairs_along(self, step):
         """Return the list of all pairs that a step leads along."""
         letter = step.lower()
@@ -91,71 +79,19 @@ class Store:
         return [(y, x) for x, y in pairs]
 
 
-def _led_on(pairs, things, ends):
-    """Return the ends of things, one step ahead of the things whose ends are told."""
-    led = {}
-    for x, y in pairs:
-        if x in things and y in ends:
-            led[x] = led.get(x, 0) | ends[y]
-    return led
-
-
-def _bits(number):
-    """Return the list of the places of all ones in an integer, rising."""
-    found = []
-    while number > 0:
-        lowest = number & -number
-        found.append(lowest.bit_length() - 1)
-        number = number ^ lowest
-    return found
-
-
 def _taken_links(manner, many, links):
     """Return a sorted copy of links, without the letters that can be left out."""
-    if not isinstance(links, dict):
-        raise BadLink(links)
-    for letter in links:
-        if not is_sign_of(letter, SMALL) or not _is_link(manner, many, links[letter]):
-            raise BadLink(letter)
-    taken = {letter: sorted([(x, y) for x, y in links[letter]]) for letter in sorted(links)}
-    if manner == "turned":
-        return {letter: pairs for letter, pairs in taken.items() if any([x != y for x, y in pairs])}
-    return {letter: pairs for letter, pairs in taken.items() if pairs != []}
-
-
-def _is_link(manner, many, thing):
-    """Tell whether an object is a list of pairs that this manner wants as a link."""
-    if not is_list(thing) or not all([_is_pair(many, pair) for pair in thing]):
-        return False
-    if has_twice([(x, y) for x, y in thing]):
-        return False
-    if manner == "any":
-        return True
-    if has_twice([x for x, _ in thing]) or has_twice([y for _, y in thing]):
-        return False
-    return manner == "matched" or len(thing) == many
-
-
-def _is_pair(many, thing):
-    """Tell whether an object is a pair of things of a store."""
-    return is_list(thing) and len(thing) == 2 and all([is_below(x, many) for x in thing])
+    check_links(links, lambda letter, thing: is_link(manner, many, thing))
+    taken = sorted_links(links)
+    return {letter: pairs for letter, pairs in taken.items() if is_told_link(manner, pairs)}
 
 
 def _taken_kinds(manner, many, kinds):
-    """Return a sorted copy of kinds, without the digits that no thing has."""
-    if kinds is None:
-        return {}
-    if not isinstance(kinds, dict):
-        raise BadKind(kinds)
-    for kind in kinds:
-        if manner != "any" or not is_sign_of(kind, DIGITS) or not _is_row(many, kinds[kind]):
+    """Return a sorted copy of kinds; there are some for "any" alone."""
+    if manner != "any" and isinstance(kinds, dict):
+        for kind in kinds:
             raise BadKind(kind)
-    return {kind: sorted(kinds[kind]) for kind in sorted(kinds) if len(kinds[kind]) > 0}
-
-
-def _is_row(many, thing):
-    """Tell whether an object is a list of unlike things of a store."""
-    return is_list(thing) and all([is_below(x, many) for x in thing]) and not has_twice(thing)
+    return taken_kinds(many, kinds)
 
 
 def _head_of(line):

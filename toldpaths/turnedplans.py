@@ -12,8 +12,8 @@ def turned_plan(kept, path):
     just if some way along the rounds, from corner 0 to itself, reduces to it: letter by
     letter, with ways that reduce to nothing ahead of each letter and at the end.
     """
-    corners = _rounds(kept)
-    nothing = _ways_of_nothing(corners)
+    corners = corners_along(1, [(path, 0, 0) for path in kept])
+    nothing = ways_of_nothing(corners)
     plans = _with_nothing(nothing, {0: []})
     for letter in reduced_word(path):
         plans = _with_nothing(nothing, _with_letter(corners, letter, plans))
@@ -25,18 +25,20 @@ def plan_word(kept, plan):
     return reduced_word("".join([kept[index] if way == "on" else word_back(kept[index]) for index, way in plan]))
 
 
-def _rounds(kept):
+def corners_along(many, threads):
     """Return for each corner the list of its triples (letter, plan, corner behind).
 
-    The plan is what going that edge adds: a pair at the first edge of a round, where no
-    other edge of it is gone without that one unless the way turns back.
+    threads is a list of triples (path, one, other): a path that leads from one of the first
+    corners, as many as are told, to another one, by corners of its own. The plan is what
+    going that edge adds: a pair at the first edge of a thread, where no other edge of it is
+    gone without that one unless the way turns back.
     """
-    corners = [[]]
-    for index, path in enumerate(kept):
-        at = 0
+    corners = [[] for _ in range(many)]
+    for index, (path, one, other) in enumerate(threads):
+        at = one
         for step in range(len(path)):
-            behind = 0 if step == len(path) - 1 else len(corners)
-            if behind != 0:
+            behind = other if step == len(path) - 1 else len(corners)
+            if behind == len(corners):
                 corners.append([])
             corners[at].append((path[step], [(index, "on")] if step == 0 else [], behind))
             corners[behind].append((path[step].swapcase(), [(index, "back")] if step == 0 else [], at))
@@ -44,7 +46,7 @@ def _rounds(kept):
     return corners
 
 
-def _ways_of_nothing(corners):
+def ways_of_nothing(corners):
     """Return a plan of few pairs for each pair of corners joined by a way that reduces to nothing."""
     plans = {}
     queue = [(0, corner, corner, []) for corner in range(len(corners))]

@@ -10,13 +10,18 @@ def is_word(thing):
 
 def reduced_word(word):
     """Return what is left of a word, however long, when letters and their backs are taken out."""
+    return "".join(reduced_row(word))
+
+
+def reduced_row(row):
+    """Return the list of the letters that are left of a word, or of a list of letters."""
     left = []
-    for letter in word:
+    for letter in row:
         if left != [] and left[-1] == letter.swapcase():
             left.pop()
         else:
             left.append(letter)
-    return "".join(left)
+    return left
 
 
 def stepped(word, letter):
