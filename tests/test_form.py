@@ -20,6 +20,9 @@ FUNCTIONS = {
                    "asks": ["book", "path"]},
     "weights.py": {"worth_carried": ["book", "path", "plan", "reading", "answers", "kinds"],
                    "worth_open": ["book", "path", "reading"], "is_worth_witness": ["book", "path", "one", "other"]},
+    "hands.py": {"telling": ["manner", "hands", "path"], "is_safe": ["manner", "hands", "k", "secrets"],
+                 "grants": ["manner", "hands", "k", "secrets", "path"]},
+    "mixed.py": {"is_mixed": ["turned", "thing"], "form": ["turned", "path"]},
 }
 METHODS = {
     "stores.py": {"Store": {"__init__": ["self", "manner", "many", "links", "kinds"], "links": ["self"],
@@ -47,6 +50,16 @@ METHODS = {
     "logs.py": {"Log": {"__init__": ["self", "manner"], "keep": ["self", "path"], "change": ["self", "letter"],
                         "undo": ["self"], "now": ["self"], "kept": ["self"], "tells": ["self", "path", "moment"],
                         "anew": ["self", "wishes"]}},
+    "mixed.py": {"MixedStore": {"__init__": ["self", "turned", "many", "links"], "links": ["self"],
+                                "__eq__": ["self", "other"], "answer": ["self", "path"]}},
+    "mixedbooks.py": {"MixedBook": {"__init__": ["self", "turned", "kept"], "kept": ["self"],
+                                    "__eq__": ["self", "other"], "is_plan": ["self", "path", "thing"],
+                                    "tells": ["self", "path"], "verdict": ["self", "path"],
+                                    "is_witness": ["self", "path", "one", "other"],
+                                    "carried": ["self", "path", "plan", "answers"], "needless": ["self"]}},
+    "carriers.py": {"Carrier": {"__init__": ["self", "book", "asked"], "add": ["self", "index", "pair"],
+                                "drop": ["self", "index", "pair"], "undo": ["self"], "answer": ["self", "n"],
+                                "kept": ["self"]}},
 }
 
 # What the rules of the language let the package use of Python's own.
